@@ -1,6 +1,7 @@
 package repo_test
 
 import (
+	"maps"
 	"math/rand"
 	"reflect"
 	"slices"
@@ -137,7 +138,8 @@ func (w *world) command() api.Command {
 		c.Name = pick(w.Rand, []string{"main", "dev", "x", "v1", "v2"})
 	}
 	if kind == api.CDrop || kind == api.CUntag {
-		c.Name = pick(w.Rand, slices.Concat(w.plain.refs.Branches, w.plain.refs.Tags, []refs.Named{{}})).Name
+		head := refs.Named{Name: w.plain.refs.Head} // which can't be dropped, if it is a branch
+		c.Name = pick(w.Rand, slices.Concat(w.plain.refs.Branches, w.plain.refs.Tags, []refs.Named{head, head, head})).Name
 	}
 	switch w.Intn(20) {
 	case 0:
@@ -191,6 +193,9 @@ func (w *world) updates() (l []api.Update) {
 		if u.Kind == api.RHead && w.Intn(2) == 0 {
 			u.Name = ""
 		}
+		if w.Intn(8) == 0 {
+			u.New = api.Id{}
+		}
 		l = append(l, u)
 	}
 	return l
@@ -223,11 +228,7 @@ func (w *world) step(crashes bool) {
 func (w *world) do(crashes bool, do func(r *repo.Repo) api.Answer, plainly func(p *plain) api.Answer) {
 	after := w.plain.copy()
 	want := plainly(after)
-	for id := range after.objects {
-		if !slices.Contains(w.seen, id) {
-			w.seen = append(w.seen, id)
-		}
-	}
+	w.meet(after)
 	refused := w.disk.Refused()
 	if crashes && w.Intn(3) == 0 {
 		w.disk.Arm(1 + w.Intn(9))
@@ -253,6 +254,15 @@ func (w *world) do(crashes bool, do func(r *repo.Repo) api.Answer, plainly func(
 	}
 	w.disk.Arm(0)
 	w.stands(w.plain)
+}
+
+// meet has all of a plain repository's objects be seen: in order, not in that of a map, as what is drawn hangs on it.
+func (w *world) meet(p *plain) {
+	for _, id := range order.Set(slices.Collect(maps.Keys(p.objects))) {
+		if !slices.Contains(w.seen, id) {
+			w.seen = append(w.seen, id)
+		}
+	}
 }
 
 // crash lets the disk crash, and opens it anew, till it is open.
@@ -371,6 +381,25 @@ func TestPlain(t *testing.T) {
 	for _, e := range []api.Errno{api.OK, api.ErrArg, api.ErrNone, api.ErrForm, api.ErrName, api.ErrThere, api.ErrMissing, api.ErrClean, api.ErrMoved, api.ErrHead} {
 		if met[e] < 10 {
 			t.Errorf("error %d: %d times", e, met[e])
+		}
+	}
+}
+
+// What is drawn is the same in each run, whatever the order of a map: else the other tests here would not be.
+func TestDraws(t *testing.T) {
+	for seed := range int64(10) {
+		var first *world
+		for range 3 {
+			w := newWorld(t, rand.New(rand.NewSource(seed)), ample)
+			for range 40 {
+				w.step(true)
+			}
+			if first == nil {
+				first = w
+			}
+			if !slices.Equal(w.seen, first.seen) || !reflect.DeepEqual(w.met, first.met) {
+				t.Fatalf("seed %d: %v; want %v", seed, w.met, first.met)
+			}
 		}
 	}
 }
